@@ -215,6 +215,37 @@ func TestAnyOneByte(t *testing.T) {
 	}
 }
 
+// TestAnyByteOfTheHead: P4.1, where something else has changed one byte of the sector that tells of the records, whatever it is that this byte tells, there is none.
+func TestAnyByteOfTheHead(t *testing.T) {
+	d, l := fresh(t, 6)
+	for round := range 5 {
+		wantCommit(t, "ahead", l, patterned(40, round), api.OK)
+		found := 0 // bytes of which a change is found out, of the sector that has most of them
+		for n := range 6 {
+			was, _ := d.Read(n)
+			here := 0
+			for i := range was {
+				noticed := 1
+				for _, by := range []byte{1, 2, 4, 8, 16, 32, 64, 128, 255} {
+					b := bytes.Clone(was)
+					b[i] ^= by
+					e := d.Copy()
+					cover(e, n, 1, b)
+					if m, why := wal.Open(e, 0, 6); why == api.OK {
+						noticed = 0
+						wantRecords(t, "a byte that tells nothing", m, toldOf(l)...)
+					}
+				}
+				here += noticed
+			}
+			found = max(found, here)
+		}
+		if found != api.Sector {
+			t.Fatalf("%d records: changes of %d bytes are found out", round+1, found)
+		}
+	}
+}
+
 // TestHeadsThatTellOtherwise: P4.1, R1, where something else has changed one byte of all that a log tells of its records, each time likewise, there is no log, whatever they tell now.
 func TestHeadsThatTellOtherwise(t *testing.T) {
 	d, l := fresh(t, 6)

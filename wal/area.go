@@ -66,10 +66,10 @@ func (a area) keep(place int, b []byte) api.Errno {
 	return a.disk.Flush()
 }
 
-// format makes an empty log. The back head goes first and comes last: without it there is no log, so that a crash on the way leaves none, or what was there.
+// format makes an empty log. The front head goes first and comes last: where it is neither a head nor broken there is no log, so that a crash on the way leaves none, or what was there.
 func (a area) format() api.Errno {
 	noughts := make([]byte, api.Sector)
-	if why := a.keep(backHead, noughts); why != api.OK {
+	if why := a.keep(frontHead, noughts); why != api.OK {
 		return why
 	}
 	for place := textStart; place < a.count; place++ {
@@ -80,14 +80,45 @@ func (a area) format() api.Errno {
 			return why
 		}
 	}
-	if why := a.keepHead(frontHead, head{}); why != api.OK {
+	if why := a.keep(backHead, a.blank(backHead)); why != api.OK {
 		return why
 	}
-	return a.keepHead(backHead, head{})
+	return a.keep(frontHead, a.headSector(frontHead, head{}))
+}
+
+// spare answers the place for the next head, beside h: what is there is blank, and safe. It refuses, if h is not the one that holds: something else has written there.
+func (a area) spare(h head) (int, api.Errno) {
+	// While writes are pending, a crash may leave another head than the one that is read.
+	if a.disk.Pending() > 0 {
+		if why := a.disk.Flush(); why != api.OK {
+			return 0, why
+		}
+	}
+	now, place, ok := a.current()
+	if !ok || now != h {
+		return 0, api.ErrDisk
+	}
+	place = other(place)
+	blank := a.blank(place)
+	if bytes.Equal(a.read(place), blank) {
+		return place, api.OK
+	}
+	return place, a.keep(place, blank)
+}
+
+// turn makes h the head that holds, at a place that is spare. The other one is blank before the call is acknowledged: it can't hold again, whatever becomes of h.
+func (a area) turn(place int, h head) api.Errno {
+	if why := a.keep(place, a.headSector(place, h)); why != api.OK {
+		return why
+	}
+	return a.keep(other(place), a.blank(other(place)))
 }
 
 // putText makes the text safe, of which the first used bytes are. A sector that holds some of those is written again with the same ones, so that they outlast its being torn.
 func (a area) putText(text []byte, used int) api.Errno {
+	if len(text) <= used {
+		return api.OK
+	}
 	for start := used / body * body; start < len(text); start += body {
 		place := textStart + start/body
 		b := make([]byte, api.Sector)
