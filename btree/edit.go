@@ -207,8 +207,7 @@ func (e *edit) lowest(x entry) (entry, api.Errno) {
 		if len(x.node.entries) == 0 {
 			return entry{node: &node{}}, api.OK
 		}
-		below := x.node.entries[0]
-		n, why := e.take(below, x.node.level-1)
+		n, why := e.take(x.node.entries[0], x.node.level-1)
 		if why != api.OK {
 			return entry{}, why
 		}
