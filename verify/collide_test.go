@@ -130,7 +130,7 @@ func TestCollideTells(t *testing.T) {
 // TestCollideForms: P9.3, what is told of leaves is a byte 0 and each text; of nodes a byte 1 and two cut hashes.
 func TestCollideForms(t *testing.T) {
 	r := rand.New(rand.NewSource(932))
-	for _, w := range []int{1, 2} {
+	for _, w := range []int{1, 2, 3, 4} {
 		a, b := twins(t, w)
 		p := somePath(r, 2)
 		wantTold(t, pair{w, a, b, 1, 3, p, p}, 0)
